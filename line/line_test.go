@@ -11,6 +11,7 @@ import (
 	"hachure/exact"
 	"hachure/line"
 	"hachure/point"
+	"hachure/sample"
 )
 
 const (
@@ -19,38 +20,13 @@ const (
 	far   = api.MaxCoord
 )
 
-func pt(x, y int) api.Point {
-	return api.Point{X: x, Y: y}
-}
-
-// pts returns the points with the coordinates n, X before Y.
-func pts(n ...int) []api.Point {
-	l := make([]api.Point, len(n)/2)
-	for i := range l {
-		l[i] = pt(n[2*i], n[2*i+1])
-	}
-	return l
-}
-
-// grid returns all points with coordinates from 0 to n - 1.
-func grid(n int) []api.Point {
-	var l []api.Point
-	for x := range n {
-		for y := range n {
-			l = append(l, pt(x, y))
-		}
-	}
-	return l
-}
-
-// wrongPoints returns points that aren't right: by one coordinate or both, a little or a lot.
-func wrongPoints() []api.Point {
-	var l []api.Point
-	for _, n := range []int{far + 1, -far - 1, 1 << 20, 1 << 32, 1<<60 + 1, -1 << 62, most, least} {
-		l = append(l, pt(n, 3), pt(3, n), pt(n, n), pt(n, -far))
-	}
-	return l
-}
+var (
+	pt          = sample.Pt
+	pts         = sample.Pts
+	grid        = sample.Grid
+	wrongPoints = sample.WrongPoints
+	everyList   = sample.EveryList
+)
 
 // walk returns n points that make up a line: from (0, 0) on, by 10 to the right and by 1 up and down.
 func walk(n int) []api.Point {
@@ -70,18 +46,6 @@ func loop(n int) []api.Point {
 		back[i].Y += 100
 	}
 	return append(append(there, back...), there[0])
-}
-
-func randomPoint(r *rand.Rand, limit int) api.Point {
-	return pt(r.Intn(2*limit+1)-limit, r.Intn(2*limit+1)-limit)
-}
-
-func randomList(r *rand.Rand, n, limit int) []api.Point {
-	l := make([]api.Point, n)
-	for i := range l {
-		l[i] = randomPoint(r, limit)
-	}
-	return l
 }
 
 // limits are bounds of random points: on narrow grids points are often equal, or on one line.
@@ -364,23 +328,6 @@ func TestCheckLine(t *testing.T) { // P5.1
 	}
 }
 
-// everyList visits all lists of n points of l.
-func everyList(l []api.Point, n int, visit func([]api.Point)) {
-	list := make([]api.Point, n)
-	var fill func(int)
-	fill = func(i int) {
-		if i == n {
-			visit(list)
-			return
-		}
-		for _, p := range l {
-			list[i] = p
-			fill(i + 1)
-		}
-	}
-	fill(0)
-}
-
 func TestCheckOfAllSmallLists(t *testing.T) { // P5.1
 	for n := 2; n <= 4; n++ {
 		everyList(grid(3), n, func(l []api.Point) { checkCheck(t, l, wantLine(l)) })
@@ -394,9 +341,9 @@ func TestCheckOfAllSmallLists(t *testing.T) { // P5.1
 
 // randomWalk returns points of which most are near to the one before, so that they often make up a line.
 func randomWalk(r *rand.Rand, n, limit int) []api.Point {
-	l := []api.Point{randomPoint(r, limit)}
+	l := []api.Point{sample.RandomPoint(r, limit)}
 	for len(l) < n {
-		l = append(l, point.Add(l[len(l)-1], randomPoint(r, 2)))
+		l = append(l, point.Add(l[len(l)-1], sample.RandomPoint(r, 2)))
 	}
 	return l
 }
@@ -406,7 +353,7 @@ func TestCheckOfManyLists(t *testing.T) { // P5.1
 	lines := 0
 	for range 20000 {
 		limit := limits[r.Intn(len(limits))]
-		l := randomList(r, 2+r.Intn(6), limit)
+		l := sample.RandomList(r, 2+r.Intn(6), limit)
 		if r.Intn(2) == 0 {
 			l = randomWalk(r, 2+r.Intn(9), limit-limit/2)
 		}
@@ -499,7 +446,7 @@ func TestLength(t *testing.T) { // P5.2
 func TestLengthOfManyLists(t *testing.T) { // P5.2
 	r := rand.New(rand.NewSource(2))
 	for range 2000 {
-		l := randomList(r, r.Intn(50), far)
+		l := sample.RandomList(r, r.Intn(50), far)
 		want := 0
 		for i := 1; i < len(l); i++ {
 			square := big.NewInt(int64((l[i].X-l[i-1].X)*(l[i].X-l[i-1].X) + (l[i].Y-l[i-1].Y)*(l[i].Y-l[i-1].Y)))
@@ -600,9 +547,9 @@ func TestWithinOfManyPoints(t *testing.T) { // P5.3
 	r := rand.New(rand.NewSource(3))
 	for range 10000 {
 		limit := limits[r.Intn(len(limits))]
-		l := randomList(r, 2+r.Intn(8), limit)
+		l := sample.RandomList(r, 2+r.Intn(8), limit)
 		before := slices.Clone(l)
-		checkWithin(t, l, randomPoint(r, limit))
+		checkWithin(t, l, sample.RandomPoint(r, limit))
 		if !slices.Equal(l, before) { // R3
 			t.Fatal("Within changes its argument")
 		}
@@ -670,7 +617,7 @@ func TestInOfManyPoints(t *testing.T) { // P5.4
 	everyList(grid(3), 4, check)
 	r := rand.New(rand.NewSource(4))
 	for range 20000 {
-		check(randomList(r, 4, limits[r.Intn(len(limits))]))
+		check(sample.RandomList(r, 4, limits[r.Intn(len(limits))]))
 	}
 }
 
@@ -774,7 +721,7 @@ func TestTouchesOfManyPoints(t *testing.T) { // P5.4
 	everyList(grid(3), 5, func(l []api.Point) { checkTouches(t, l) })
 	r := rand.New(rand.NewSource(5))
 	for range 20000 {
-		checkTouches(t, randomList(r, 5, limits[r.Intn(len(limits))]))
+		checkTouches(t, sample.RandomList(r, 5, limits[r.Intn(len(limits))]))
 	}
 }
 
@@ -1016,7 +963,7 @@ func TestReversedLines(t *testing.T) { // P5.7
 	r := rand.New(rand.NewSource(7))
 	for range 5000 {
 		limit := limits[r.Intn(len(limits))] / 2
-		l, p, n := someLine(r, limit), randomPoint(r, limit), r.Intn(50)
+		l, p, n := someLine(r, limit), sample.RandomPoint(r, limit), r.Intn(50)
 		reversed := line.Reverse(l)
 		if line.Check(reversed) != api.OK {
 			t.Fatalf("Reverse(%v) is no line", l)
@@ -1075,8 +1022,8 @@ func TestTurnedAndMovedPoints(t *testing.T) { // P5.7
 	r := rand.New(rand.NewSource(9))
 	for range 5000 {
 		limit := []int{1, 2, 4, 30, far / 2}[r.Intn(5)]
-		l, m, p, n := randomWalk(r, 2+r.Intn(6), limit/2), randomWalk(r, 2+r.Intn(6), limit/2), randomList(r, 5, limit), r.Intn(40)
-		by, turns := randomPoint(r, far/2-20), r.Intn(9)-4
+		l, m, p, n := randomWalk(r, 2+r.Intn(6), limit/2), randomWalk(r, 2+r.Intn(6), limit/2), sample.RandomList(r, 5, limit), r.Intn(40)
+		by, turns := sample.RandomPoint(r, far/2-20), r.Intn(9)-4
 		move := func(l []api.Point) []api.Point {
 			moved := make([]api.Point, len(l))
 			for i, q := range l {
@@ -1097,7 +1044,7 @@ func TestTurnedAndMovedPoints(t *testing.T) { // P5.7
 func TestCornersAndOrders(t *testing.T) { // P5.8
 	r := rand.New(rand.NewSource(10))
 	for range 20000 {
-		l := randomList(r, 4, limits[r.Intn(len(limits))])
+		l := sample.RandomList(r, 4, limits[r.Intn(len(limits))])
 		a, b, c, p := l[0], l[1], l[2], l[3]
 		for _, corner := range []api.Point{a, b, c} {
 			if !line.In(a, b, c, corner) {
@@ -1117,7 +1064,7 @@ func TestTouchesAndIn(t *testing.T) { // P5.8
 	r := rand.New(rand.NewSource(11))
 	inside, apart := 0, 0
 	for range 20000 {
-		l := randomList(r, 5, limits[r.Intn(len(limits))])
+		l := sample.RandomList(r, 5, limits[r.Intn(len(limits))])
 		a, b, c, d, e := l[0], l[1], l[2], l[3], l[4]
 		touches := line.Touches(a, b, c, d, e)
 		for _, end := range []api.Point{d, e} {
@@ -1144,7 +1091,7 @@ func TestWithinForGreaterNumbers(t *testing.T) { // P5.9
 	r := rand.New(rand.NewSource(12))
 	for range 2000 {
 		limit := limits[r.Intn(4)]
-		l, p := randomList(r, 2+r.Intn(4), limit), randomPoint(r, limit)
+		l, p := sample.RandomList(r, 2+r.Intn(4), limit), sample.RandomPoint(r, limit)
 		on := false
 		for i := 1; i < len(l); i++ {
 			on = on || point.On(l[i-1], l[i], p)
