@@ -1,4 +1,4 @@
-// Package sample makes points and lists of points for the tests of the layers. No layer imports it.
+// Package sample makes points, lists of points and partitions for the tests of the layers. No layer imports it.
 package sample
 
 import (
@@ -7,8 +7,11 @@ import (
 	"hachure/api"
 )
 
-// Source draws numbers from 0 to n - 1, as a generator of math/rand does.
-type Source interface{ Intn(n int) int }
+// Source draws numbers from 0 to n - 1, or an order of all of them, as a generator of math/rand does.
+type Source interface {
+	Intn(n int) int
+	Perm(n int) []int
+}
 
 // Pt returns the point with the coordinates x and y.
 func Pt(x, y int) api.Point {
