@@ -508,75 +508,64 @@ func TestCheckUsed(t *testing.T) { // P7.1, check 7
 	checkCheck(t, onlyRight, faces(3, 1), api.ErrNone)
 }
 
-// faults returns for each of the seven checks all kinds of changes of a right partition with the faces 1 and 2, far from each other, with the error of each.
-func faults() [7]map[string]func(edges []api.Edge, l []api.Face) ([]api.Edge, []api.Face, api.Errno) {
-	type change = func([]api.Edge, []api.Face) ([]api.Edge, []api.Face, api.Errno)
-	add := func(errno api.Errno, more ...api.Edge) change {
+// fault changes a right partition with the faces 1 and 2, and returns the error that Check then returns.
+type fault func(edges []api.Edge, l []api.Face) ([]api.Edge, []api.Face, api.Errno)
+
+// faults returns for each of the seven checks all kinds of changes, far from each other.
+func faults() [7][]fault {
+	add := func(errno api.Errno, more ...api.Edge) fault {
 		return func(edges []api.Edge, l []api.Face) ([]api.Edge, []api.Face, api.Errno) {
 			return append(edges, more...), l, errno
 		}
 	}
-	face := func(errno api.Errno, ids ...int) change {
+	face := func(errno api.Errno, ids ...int) fault {
 		return func(edges []api.Edge, l []api.Face) ([]api.Edge, []api.Face, api.Errno) {
 			return edges, append(l, faces(ids...)...), errno
 		}
 	}
-	return [7]map[string]change{
+	return [7][]fault{
+		{add(api.ErrMany, make([]api.Edge, 200)...), face(api.ErrMany, make([]int, 80)...)},
+		{face(api.ErrArg, 0), face(api.ErrArg, -4), face(api.ErrTwice, 2)},
 		{
-			"edges": add(api.ErrMany, make([]api.Edge, 200)...),
-			"faces": face(api.ErrMany, make([]int, 80)...),
-		},
-		{"zero": face(api.ErrArg, 0), "less": face(api.ErrArg, -4), "twice": face(api.ErrTwice, 2)},
-		{
-			"id":     add(api.ErrArg, edge(0, 1, 2, 800, 0, 801, 0)),
-			"twice":  add(api.ErrTwice, edge(101, 1, 2, 800, 0, 801, 0)),
-			"many":   add(api.ErrMany, edge(30, 1, 2, 800, 0)),
-			"point":  add(api.ErrPoint, edge(30, 1, 2, 800, 0, far+1, 0)),
-			"line":   add(api.ErrLine, edge(30, 1, 2, 800, 0, 800, 0)),
-			"face":   add(api.ErrFace, edge(30, 1, 1, 800, 0, 801, 0)),
-			"nobody": add(api.ErrNone, edge(30, 1, 9, 800, 0, 801, 0)),
+			add(api.ErrArg, edge(0, 1, 2, 800, 0, 801, 0)),
+			add(api.ErrTwice, edge(101, 1, 2, 800, 0, 801, 0)),
+			add(api.ErrMany, edge(30, 1, 2, 800, 0)),
+			add(api.ErrPoint, edge(30, 1, 2, 800, 0, far+1, 0)),
+			add(api.ErrLine, edge(30, 1, 2, 800, 0, 800, 0)),
+			add(api.ErrFace, edge(30, 1, 1, 800, 0, 801, 0)),
+			add(api.ErrNone, edge(30, 1, 9, 800, 0, 801, 0)),
 		},
 		{
-			"cross": add(api.ErrMeet, edge(40, 1, 2, 700, 0, 710, 10), edge(41, 1, 2, 700, 10, 710, 0)),
-			"touch": add(api.ErrMeet, triangle(40, 1, 500), edge(41, 2, 1, 1, 50, 1, 51)),
+			add(api.ErrMeet, edge(40, 1, 2, 700, 0, 710, 10), edge(41, 1, 2, 700, 10, 710, 0)),
+			add(api.ErrMeet, triangle(40, 1, 500), edge(41, 2, 1, 1, 50, 1, 51)),
 		},
 		{
-			"end":    add(api.ErrFace, edge(50, 1, 2, 600, 0, 610, 10)),
-			"chain":  add(api.ErrFace, edge(50, 1, 0, 600, 0, 610, 10, 600, 10), edge(51, 2, 0, 600, 10, 600, 0)),
-			"closed": add(api.ErrFace, edge(50, 1, 0, 600, 0, 610, 0, 605, 9, 600, 0), edge(51, 2, 1, 600, 0, 590, 0, 595, 9, 600, 0)),
+			add(api.ErrFace, edge(50, 1, 2, 600, 0, 610, 10)),
+			add(api.ErrFace, edge(50, 1, 0, 600, 0, 610, 10, 600, 10), edge(51, 2, 0, 600, 10, 600, 0)),
+			add(api.ErrFace, edge(50, 1, 0, 600, 0, 610, 0, 605, 9, 600, 0), edge(51, 2, 1, 600, 0, 590, 0, 595, 9, 600, 0)),
 		},
 		{
-			"turned": add(api.ErrInside, edge(60, 0, 2, 500, 0, 510, 0, 500, 10, 500, 0)),
-			"inside": add(api.ErrInside, edge(60, 1, 0, 500, 0, 510, 0, 500, 10, 500, 0), edge(61, 2, 0, 501, 1, 502, 1, 501, 2, 501, 1)),
+			add(api.ErrInside, edge(60, 0, 2, 500, 0, 510, 0, 500, 10, 500, 0)),
+			add(api.ErrInside, edge(60, 1, 0, 500, 0, 510, 0, 500, 10, 500, 0), edge(61, 2, 0, 501, 1, 502, 1, 501, 2, 501, 1)),
 		},
-		{"unused": face(api.ErrNone, 77)},
+		{face(api.ErrNone, 77)},
 	}
 }
 
 func TestOrderOfChecks(t *testing.T) { // P7.1, R2
 	all := faults()
 	for set := range 1 << len(all) {
-		for range 5 {
+		for kind := range 42 {
 			edges, l := []api.Edge{triangle(101, 1, 0), triangle(102, 2, 1)}, faces(1, 2)
 			want := api.OK
-			// Later faults are put in first, so that the earlier ones also come after them in the lists.
+			// Later faults are put in first, so that what earlier checks find comes after them in the lists.
 			for i := len(all) - 1; i >= 0; i-- {
-				if set>>i&1 == 0 {
-					continue
-				}
-				for _, change := range all[i] { // any of them
-					edges, l, want = change(edges, l)
-					break
+				if set>>i&1 == 1 {
+					edges, l, want = all[i][kind%len(all[i])](edges, l)
 				}
 			}
-			checkCheck(t, edges, l, want)
-		}
-	}
-	for i := range all {
-		for name, change := range all[i] {
-			edges, l, want := change([]api.Edge{triangle(101, 1, 0), triangle(102, 2, 1)}, faces(1, 2))
 			if got := wantCheck(edges, l); got != want {
-				t.Errorf("the change %s is wrong: %v", name, got)
+				t.Fatalf("the faults %b, %d are wrong: %v, want %v", set, kind, got, want)
 			}
 			checkCheck(t, edges, l, want)
 		}
