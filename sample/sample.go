@@ -1,4 +1,4 @@
-// Package sample makes points, lists of points and partitions for the tests of the layers. No layer imports it.
+// Package sample makes points, lists of points, partitions and maps for the tests of the layers. No layer imports it.
 package sample
 
 import (
