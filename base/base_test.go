@@ -26,9 +26,6 @@ var (
 	pts = sample.Pts
 )
 
-// extremes are numbers that no right map has as an Id, a weight or a district, and some near them.
-var extremes = []int{least, least + 1, -1, 0, api.MaxDistrict, api.MaxDistrict + 1, api.MaxWeight + 1, maxId, maxId + 1, most - 1, most}
-
 // example returns the map of the chapter's examples.
 func example() api.Map {
 	return api.Map{
@@ -68,24 +65,12 @@ func town() api.Map {
 
 // changed returns m with a change, in memory of its own.
 func changed(m api.Map, change func(*api.Map)) api.Map {
-	m = cloneMap(m)
+	m = sample.CloneMap(m)
 	change(&m)
 	return m
 }
 
-// cloneMap returns m in memory of its own.
-func cloneMap(m api.Map) api.Map {
-	c := api.Map{Edges: slices.Clone(m.Edges), Faces: slices.Clone(m.Faces), Ways: slices.Clone(m.Ways), Places: slices.Clone(m.Places)}
-	for i := range c.Edges {
-		c.Edges[i].Line = slices.Clone(c.Edges[i].Line)
-	}
-	for i := range c.Ways {
-		c.Ways[i].Line = slices.Clone(c.Ways[i].Line)
-	}
-	return c
-}
-
-// full returns m without nil slices, so that reflect.DeepEqual takes nil and empty ones for equal, R1.
+// full returns m without nil slices.
 func full(m api.Map) api.Map {
 	c := api.Map{Edges: append([]api.Edge{}, m.Edges...), Faces: append([]api.Face{}, m.Faces...), Ways: append([]api.Way{}, m.Ways...), Places: append([]api.Place{}, m.Places...)}
 	for i := range c.Edges {
@@ -97,88 +82,23 @@ func full(m api.Map) api.Map {
 	return c
 }
 
-func equal(a, b api.Map) bool {
-	return reflect.DeepEqual(full(a), full(b))
-}
-
 // unchanged runs a call, and then compares m with what it was before, R3.
 func unchanged(t *testing.T, m api.Map, call func()) {
 	t.Helper()
-	before := cloneMap(m)
+	before := sample.CloneMap(m)
 	call()
 	if !reflect.DeepEqual(m, before) {
 		t.Fatalf("%v has become %v", before, m)
 	}
 }
 
-// shuffled returns l in another order.
-func shuffled[T any](r *rand.Rand, l []T) []T {
-	other := make([]T, len(l))
-	for i, j := range r.Perm(len(l)) {
-		other[i] = l[j]
-	}
-	return other
-}
-
-// disordered returns m with each list in another order.
-func disordered(r *rand.Rand, m api.Map) api.Map {
-	m = cloneMap(m)
-	return api.Map{Edges: shuffled(r, m.Edges), Faces: shuffled(r, m.Faces), Ways: shuffled(r, m.Ways), Places: shuffled(r, m.Places)}
-}
-
-// randomTown draws a right map of up to 64 cells, and the partition that it has.
-func randomTown(r *rand.Rand) (api.Map, sample.Partition) {
-	n := 1 + r.Intn(8)
-	ids := r.Perm(200)[:1+r.Intn(n*n)]
-	for i := range ids {
-		ids[i]++
-	}
-	p := sample.RandomPartition(r, n, far>>r.Intn(8), ids)
-	return sample.RandomMap(r, p, 1+r.Intn(1+r.Intn(api.MaxDistrict))), p
-}
-
 // towns visits random right maps.
 func towns(seed int64, n int, visit func(r *rand.Rand, m api.Map)) {
 	r := rand.New(rand.NewSource(seed))
 	for range n {
-		m, _ := randomTown(r)
+		m, _ := sample.RandomTown(r)
 		visit(r, m)
 	}
-}
-
-// randomNumber draws a number that is often equal to others, and far from some.
-func randomNumber(r *rand.Rand) int {
-	if r.Intn(10) == 0 {
-		return extremes[r.Intn(len(extremes))]
-	}
-	return r.Intn(8)
-}
-
-// randomText draws a string of any kind.
-func randomText(r *rand.Rand) string {
-	return []string{"", "oak", "Oak", "\xff", " "}[r.Intn(5)]
-}
-
-// randomMap draws a map of any kind, in which many Ids and districts are the same.
-func randomMap(r *rand.Rand) api.Map {
-	var m api.Map
-	limit := []int{1, 9, far, far + 1, most / 4}[r.Intn(5)]
-	for range r.Intn(8) {
-		m.Edges = append(m.Edges, api.Edge{Id: randomNumber(r), Line: sample.RandomList(r, r.Intn(4), limit), Left: randomNumber(r), Right: randomNumber(r)})
-	}
-	for range r.Intn(6) {
-		m.Faces = append(m.Faces, api.Face{Id: randomNumber(r), Class: randomText(r), Name: randomText(r), Weight: randomNumber(r), District: randomNumber(r)})
-	}
-	for range r.Intn(6) {
-		m.Ways = append(m.Ways, api.Way{
-			Id: randomNumber(r), Line: sample.RandomList(r, r.Intn(4), limit), Level: randomNumber(r),
-			Class: randomText(r), Name: randomText(r), Stairs: r.Intn(2) == 0, Weight: randomNumber(r), District: randomNumber(r),
-		})
-	}
-	for range r.Intn(6) {
-		m.Places = append(m.Places, api.Place{Id: randomNumber(r), At: sample.RandomPoint(r, limit), Class: randomText(r), Name: randomText(r), Weight: randomNumber(r), District: randomNumber(r)})
-	}
-	return m
 }
 
 // maps visits random maps: right ones, and ones of any kind.
@@ -186,7 +106,7 @@ func maps(seed int64, n int, visit func(r *rand.Rand, m api.Map)) {
 	towns(seed, n/4, visit)
 	r := rand.New(rand.NewSource(seed))
 	for range n {
-		visit(r, randomMap(r))
+		visit(r, sample.AnyMap(r, 3))
 	}
 }
 
@@ -401,7 +321,7 @@ func checkDistricts(t *testing.T, m api.Map, want ...int) {
 func checkPart(t *testing.T, m api.Map, d int, want api.Map) {
 	t.Helper()
 	unchanged(t, m, func() {
-		if got := base.Part(m, d); !equal(got, want) {
+		if got := base.Part(m, d); !sample.SameMap(got, want) {
 			t.Fatalf("Part(%v, %d) = %v, want %v", m, d, got, want)
 		}
 	})
@@ -410,7 +330,7 @@ func checkPart(t *testing.T, m api.Map, d int, want api.Map) {
 func checkNorm(t *testing.T, m, want api.Map) {
 	t.Helper()
 	unchanged(t, m, func() {
-		if got := base.Norm(m); !equal(got, want) {
+		if got := base.Norm(m); !sample.SameMap(got, want) {
 			t.Fatalf("Norm(%v) = %v, want %v", m, got, want)
 		}
 	})
@@ -667,12 +587,12 @@ func TestSame(t *testing.T) { // P10.5
 	checkSame(t, town(), base.Norm(town()), false)
 	for i, change := range differences() {
 		other := changed(town(), change)
-		if equal(town(), other) {
+		if sample.SameMap(town(), other) {
 			t.Fatalf("the difference %d is none", i)
 		}
 		checkSame(t, town(), other, false)
 		checkSame(t, other, town(), false)
-		checkSame(t, other, cloneMap(other), true)
+		checkSame(t, other, sample.CloneMap(other), true)
 	}
 }
 
@@ -765,17 +685,17 @@ func TestNormOfManyMaps(t *testing.T) { // P10.5, P10.7
 		norm := wantNorm(m)
 		checkNorm(t, m, norm)
 		checkNorm(t, norm, norm)
-		checkSame(t, m, norm, equal(m, norm))
-		other := disordered(r, m)
-		checkSame(t, m, other, equal(m, other))
+		checkSame(t, m, norm, sample.SameMap(m, norm))
+		other := sample.Disordered(r, m)
+		checkSame(t, m, other, sample.SameMap(m, other))
 	})
 }
 
 func TestOrderOfListsPlaysNoPart(t *testing.T) { // P10.7
 	disorder := 0
 	towns(4, 300, func(r *rand.Rand, m api.Map) {
-		other := disordered(r, m)
-		if !equal(m, other) {
+		other := sample.Disordered(r, m)
+		if !sample.SameMap(m, other) {
 			disorder++
 		}
 		checkCheck(t, other, api.OK)
@@ -879,27 +799,6 @@ func TestOthersChangeNothingInPart(t *testing.T) { // P10.8
 	})
 }
 
-// scribble overwrites all memory of m, also beyond the ends of slices.
-func scribble(m api.Map) {
-	for _, e := range m.Edges[:cap(m.Edges)] {
-		scribbleLine(e.Line)
-	}
-	for _, w := range m.Ways[:cap(m.Ways)] {
-		scribbleLine(w.Line)
-	}
-	clear(m.Edges[:cap(m.Edges)])
-	clear(m.Faces[:cap(m.Faces)])
-	clear(m.Ways[:cap(m.Ways)])
-	clear(m.Places[:cap(m.Places)])
-}
-
-func scribbleLine(l []api.Point) {
-	l = l[:cap(l)]
-	for i := range l {
-		l[i] = pt(most, most)
-	}
-}
-
 func TestResultsAreNew(t *testing.T) { // R3
 	for name, call := range map[string]func(api.Map) api.Map{
 		"Norm":   base.Norm,
@@ -909,14 +808,14 @@ func TestResultsAreNew(t *testing.T) { // R3
 		// Lines of one array, which a result must not have in common either.
 		line := pts(1, 2, 3, 4, 5, 6)
 		m.Edges[1].Line, m.Edges[2].Line, m.Ways[1].Line = line[:1], line[:2], line[1:]
-		want := call(cloneMap(m))
+		want := call(sample.CloneMap(m))
 		got := call(m)
-		scribble(m)
-		if !equal(got, want) {
+		sample.Scribble(m)
+		if !sample.SameMap(got, want) {
 			t.Errorf("%s shares memory with its argument: %v", name, got)
 		}
 		for i := range got.Edges {
-			scribbleLine(got.Edges[i].Line)
+			sample.ScribbleLine(got.Edges[i].Line)
 			for j := range got.Edges {
 				if j != i && !slices.Equal(got.Edges[j].Line, want.Edges[j].Line) {
 					t.Errorf("%s: the Lines of the edges %d and %d share memory", name, i, j)
@@ -925,7 +824,7 @@ func TestResultsAreNew(t *testing.T) { // R3
 			copy(got.Edges[i].Line, want.Edges[i].Line)
 		}
 		for i := range got.Ways {
-			scribbleLine(got.Ways[i].Line)
+			sample.ScribbleLine(got.Ways[i].Line)
 		}
 		for i := range got.Edges {
 			if !slices.Equal(got.Edges[i].Line, want.Edges[i].Line) {
@@ -945,8 +844,8 @@ func TestListsOfNumbersAreNew(t *testing.T) { // R3
 
 func TestAnyArguments(t *testing.T) { // P1, R3, R4
 	maps(8, 400, func(r *rand.Rand, m api.Map) {
-		other := randomMap(r)
-		id := randomNumber(r)
+		other := sample.AnyMap(r, 3)
+		id := sample.AnyNumber(r)
 		unchanged(t, m, func() {
 			for range 2 {
 				base.Check(m)

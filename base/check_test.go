@@ -455,7 +455,7 @@ func TestCheckOfSpoiledTowns(t *testing.T) { // P10.1
 	r := rand.New(rand.NewSource(11))
 	found := map[api.Errno]int{}
 	for range 1500 {
-		m, p := randomTown(r)
+		m, p := sample.RandomTown(r)
 		if len(m.Faces) == 0 {
 			continue
 		}
@@ -476,7 +476,7 @@ func TestCheckOfSpoiledTowns(t *testing.T) { // P10.1
 func TestCheckOfWrongMaps(t *testing.T) { // P10.1
 	r := rand.New(rand.NewSource(12))
 	for range 2000 {
-		m := randomMap(r)
+		m := sample.AnyMap(r, 3)
 		checkCheck(t, m, wantCheck(m, func(p api.Point) (int, bool) { return cover.At(m.Edges, p) }))
 	}
 }
