@@ -910,7 +910,7 @@ func TestLargeArguments(t *testing.T) { // P1, R5
 		m.Places[i] = api.Place{Id: i, At: pt(5, 5)}
 	}
 	m.Edges[n-1].Line = pts(50, 50, 51, 50, 51, 49)
-	m.Edges[0].Line = make([]api.Point, 2000)
+	m.Edges[0].Line = make([]api.Point, n)
 	want := []api.Event{event(1, 1, 1)}
 	if all := drop.All(m, 1); !slices.Equal(all, want) || len(drop.All(m, 2)) > 0 {
 		t.Errorf("All: %d events", len(all))
